@@ -1,10 +1,10 @@
-"""Halls for the tests, told as (ends, rests, table), and how a refusal is asked for."""
+"""Halls for the tests, told as (ends, rests, table), readings of them, and how an answer or a refusal is asked for."""
 
 import copy
 import itertools
 
 from arrowhall.errors import ArrowError
-from arrowhall.halls import Hall
+from arrowhall.halls import Hall, turned
 
 THIRTY_FIGURES = 10 ** 30 - 1
 
@@ -159,16 +159,184 @@ def halls():
     return {name: Hall(*told) for name, told in samples().items()}
 
 
+def both_ways():
+    """The halls, and each of them turned round."""
+    told = halls()
+    return {**told, **{name + ", turned round": turned(hall) for name, hall in told.items()}}
+
+
+def small_ones():
+    return {name: hall for name, hall in both_ways().items() if len(hall.ends) <= 8}
+
+
+def arrows_from(hall, box, other):
+    return [arrow for arrow, pair in enumerate(hall.ends) if pair == (box, other)]
+
+
+def reads(hall, counts, maps):
+    """Point 11 asked in full, thing by thing."""
+    if len(counts) != len(hall.rests) or any(not 0 <= count <= 40 for count in counts):
+        return False
+    if len(maps) != len(hall.ends):
+        return False
+    for (start, goal), things in zip(hall.ends, maps):
+        if len(things) != counts[start] or any(not 0 <= thing < counts[goal] for thing in things):
+            return False
+    for box, rest in enumerate(hall.rests):
+        if any(maps[rest][thing] != thing for thing in range(counts[box])):
+            return False
+    for one, other in itertools.product(range(len(hall.ends)), repeat=2):
+        made = hall.table[one][other]
+        if hall.ends[one][1] == hall.ends[other][0]:
+            for thing in range(counts[hall.ends[one][0]]):
+                if maps[made][thing] != maps[other][maps[one][thing]]:
+                    return False
+    return True
+
+
+def arrows_out(hall, box):
+    """The reading out of a box by the words of point 12."""
+    things = {}
+    for other in range(len(hall.rests)):
+        for number, arrow in enumerate(arrows_from(hall, box, other)):
+            things[arrow] = number
+    counts = [len(arrows_from(hall, box, other)) for other in range(len(hall.rests))]
+    maps = []
+    for arrow, (start, _) in enumerate(hall.ends):
+        maps.append([things[hall.table[first][arrow]] for first in arrows_from(hall, box, start)])
+    return counts, maps
+
+
+def unmoved(hall, count):
+    """As many things at each box, and each arrow leaves them as they are."""
+    return [count] * len(hall.rests), [list(range(count)) for _ in hall.ends]
+
+
+def side_by_side(hall, one, other):
+    """At each box the things of the first reading, and then those of the second one."""
+    counts = [first + second for first, second in zip(one[0], other[0])]
+    maps = [first + [thing + one[0][goal] for thing in second]
+            for (_, goal), first, second in zip(hall.ends, one[1], other[1])]
+    return counts, maps
+
+
+def some_readings(hall):
+    told = [arrows_out(hall, box) for box in range(len(hall.rests))] + [unmoved(hall, count) for count in (0, 1, 2)]
+    if max(told[0][0]) < 40:
+        told.append(side_by_side(hall, told[0], unmoved(hall, 1)))
+    return told
+
+
+def all_readings(hall, most):
+    """Every reading with at most as many things at each box, found by trying all."""
+    found = []
+    for counts in itertools.product(range(most + 1), repeat=len(hall.rests)):
+        choices = [itertools.product(range(counts[goal]), repeat=counts[start]) for start, goal in hall.ends]
+        for maps in itertools.product(*choices):
+            told = list(counts), [list(things) for things in maps]
+            if reads(hall, *told):
+                found.append(told)
+    return found
+
+
+def wrong_readings(hall):
+    """Tuples of two lists that are no reading of the hall, each by one fault."""
+    counts, lists = unmoved(hall, 2)
+    rest = hall.rests[-1]
+    told = [
+        (counts[:-1], lists),
+        (counts + [2], lists),
+        (counts, lists[:-1]),
+        (counts, lists + [[0, 1]]),
+        (counts, lists[:rest] + [[1, 0]] + lists[rest + 1:]),
+        unmoved(hall, 41),
+        ([], []),
+    ]
+    for number in (-1, 1, 3, THIRTY_FIGURES):
+        told.append((counts[:-1] + [number], lists))
+    for things in ([], [0], [0, 1, 1], [0, 2], [-1, 1], [0, -1], [THIRTY_FIGURES, 1]):
+        told.append((counts, lists[:rest] + [things] + lists[rest + 1:]))
+    return told
+
+
+def is_change(hall, one, other, change):
+    """Point 13 asked in full, thing by thing."""
+    if len(change) != len(hall.rests) or [len(things) for things in change] != one[0]:
+        return False
+    for box, things in enumerate(change):
+        if any(not 0 <= thing < other[0][box] for thing in things):
+            return False
+    for arrow, (start, goal) in enumerate(hall.ends):
+        for thing in range(one[0][start]):
+            if change[goal][one[1][arrow][thing]] != other[1][arrow][change[start][thing]]:
+                return False
+    return True
+
+
+def ways(one, other):
+    """In how many ways a thing of the second reading can be told for each thing of the first one."""
+    count = 1
+    for first, second in zip(one[0], other[0]):
+        count *= second ** first
+    return count
+
+
+def all_changes(hall, one, other):
+    """Every change, found by trying all ways, in the order of point 13."""
+    boxes = [itertools.product(range(second), repeat=first) for first, second in zip(one[0], other[0])]
+    tried = [[list(things) for things in way] for way in itertools.product(*boxes)]
+    return sorted(way for way in tried if is_change(hall, one, other, way))
+
+
 def no_numbers(count):
     """Whole numbers that number none of count things: below nought, one beyond, far beyond."""
     return [-1, -2, -count, -count - 1, -THIRTY_FIGURES, count, count + 1, count + 60, THIRTY_FIGURES]
 
 
+def taken(value):
+    """What a value holds now, to be compared later."""
+    if isinstance(value, Hall):
+        return taken([value.ends, value.rests, value.table])
+    if isinstance(value, (list, tuple)):
+        return [value.__class__.__name__] + [taken(part) for part in value]
+    return value
+
+
+def lists_within(value):
+    if isinstance(value, Hall):
+        return lists_of(value)
+    found = [value] if isinstance(value, list) else []
+    if isinstance(value, (list, tuple)):
+        for part in value:
+            found += lists_within(part)
+    return found
+
+
+def asked(case, call, *args):
+    """The answer of a call, once it is sure that what is handed in stays as it was, and that the answer is the
+    asker's own: no two lists of it are one, none is one that was handed in, and spoiling it spoils nothing."""
+    before = taken(args)
+    told = call(*args)
+    case.assertEqual(taken(args), before)
+    own = [id(each) for each in lists_within(told)]
+    case.assertEqual(len(set(own)), len(own))
+    case.assertFalse(set(own) & {id(each) for arg in args for each in lists_within(arg)})
+    right = copy.deepcopy(told)
+    for each in lists_within(told):
+        each.clear()
+        each.append(77)
+    case.assertEqual(taken(call(*args)), taken(right))
+    case.assertEqual(taken(args), before)
+    return right
+
+
 def refused(case, error, call, *args):
-    """The call is refused with this very class."""
+    """The call is refused with this very class, and what is handed in stays as it was."""
+    before = taken(args)
     with case.assertRaises(ArrowError) as caught:
         call(*args)
     case.assertIs(type(caught.exception), error)
+    case.assertEqual(taken(args), before)
 
 
 def refused_in_either_place(case, error, call, hall, count):
